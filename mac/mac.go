@@ -14,7 +14,7 @@ const (
 	noDigit   = -1
 )
 
-// values holds what each character is worth as a digit. It ends behind 'f', the greatest of them.
+// values is the table of digitValue that is made once. It ends behind 'f', the greatest digit. Digit alone reads it, so that what the chapter's functions answer hangs on nothing that is kept.
 var (
 	valuesOnce sync.Once
 	values     ['f' + 1]int
@@ -101,6 +101,15 @@ func Parse(text string) (int, api.Errno) {
 	return a, api.OK
 }
 
+// Digit tells what a digit of an address's text is worth: ErrChar, if it is none.
+func Digit(char rune) (int, api.Errno) {
+	valuesOnce.Do(makeValues)
+	if char < 0 || int(char) >= len(values) || values[char] == noDigit {
+		return 0, api.ErrChar
+	}
+	return values[char], api.OK
+}
+
 func isReserved(a int) bool {
 	return api.Reserved <= a && a <= api.Reserved+15
 }
@@ -124,18 +133,17 @@ func checkLength(s string, want int) api.Errno {
 }
 
 func digitValue(char rune) int {
-	valuesOnce.Do(makeValues)
-	if int(char) >= len(values) {
-		return noDigit
+	switch {
+	case '0' <= char && char <= '9':
+		return int(char - '0')
+	case 'a' <= char && char <= 'f':
+		return int(char-'a') + 10
 	}
-	return values[char]
+	return noDigit
 }
 
 func makeValues() {
-	for i := range values {
-		values[i] = noDigit
-	}
-	for value, digit := range digits {
-		values[digit] = value
+	for char := range values {
+		values[char] = digitValue(rune(char))
 	}
 }

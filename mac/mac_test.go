@@ -252,6 +252,36 @@ func TestParseRefusesOtherTexts(t *testing.T) { // P1.2
 	}
 }
 
+// wantDigit says independently what a digit is worth.
+func wantDigit(char rune) (int, api.Errno) {
+	if i := strings.IndexRune("0123456789abcdef", char); i >= 0 {
+		return i, api.OK
+	}
+	return 0, api.ErrChar
+}
+
+func TestDigitTellsEachCharacter(t *testing.T) { // P1, R2
+	chars := []rune{math.MinInt32, -'0', -'a', -1, '0' + 1<<8, 'a' + 1<<16, 0xff10, 0x1d7d8, 0xfffd, 0x10ffff, 0x110000, math.MaxInt32}
+	for char := rune(0); char < 1000; char++ {
+		chars = append(chars, char)
+	}
+	for _, char := range chars {
+		want, wantErr := wantDigit(char)
+		if value, e := mac.Digit(char); value != want || e != wantErr {
+			t.Errorf("Digit(%#x) = %d, %d, want %d, %d", char, value, e, want, wantErr)
+		}
+	}
+}
+
+func TestDigitAndParseAgree(t *testing.T) { // P1.2
+	for char := rune(0); char < 128; char++ {
+		value, e := mac.Digit(char)
+		if a, parseErr := mac.Parse("00:00:00:00:00:0" + string(char)); a != value || parseErr != e {
+			t.Errorf("Digit(%q) = %d, %d, but Parse = %d, %d", char, value, e, a, parseErr)
+		}
+	}
+}
+
 func TestWhatIsToldIsReadAsItWas(t *testing.T) { // P1.3
 	for _, a := range addresses() {
 		b, _ := mac.Bytes(a)
@@ -265,10 +295,16 @@ func TestWhatIsToldIsReadAsItWas(t *testing.T) { // P1.3
 	}
 }
 
-func TestParseByManyAtOnce(t *testing.T) { // R1
+func TestParseAndDigitByManyAtOnce(t *testing.T) { // R1
 	var all sync.WaitGroup
 	for n := range 32 {
 		all.Go(func() {
+			for char := range rune(128) {
+				want, wantErr := wantDigit(char)
+				if value, e := mac.Digit(char); value != want || e != wantErr {
+					t.Errorf("Digit(%q) = %d, %d", char, value, e)
+				}
+			}
 			for i := range 1000 {
 				a := (n<<40 + i*0x10f0f0f1) & api.MaxMac
 				if b, e := mac.Parse(wantText(a)); b != a || e != api.OK {
