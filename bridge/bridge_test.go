@@ -1017,7 +1017,7 @@ func TestAFullQueueLoses(t *testing.T) { // DOC.md's example 10
 	}
 }
 
-func TestTwoBesideEachOther(t *testing.T) { // DOC.md's examples 6, 7 and 8, as far as two go
+func TestTwoBesideEachOther(t *testing.T) { // DOC.md's examples 6 and 7, as far as two go
 	told := func(from, to api.Bridge) (api.Bridge, api.Bridge) {
 		from, taken := takeAll(t, from)
 		for port, raws := range taken {
@@ -1046,6 +1046,23 @@ func TestTwoBesideEachOther(t *testing.T) { // DOC.md's examples 6, 7 and 8, as 
 	if highPorts, _ = stp.Forwards(high.Tree); !slices.Equal(highPorts, []int{0, 1}) {
 		t.Errorf("by %v frames go on, once nobody else is there", highPorts)
 	}
+}
+
+func TestARootThatDoesNotExist(t *testing.T) { // DOC.md's example 8
+	b := receive(t, awake(t, 2, tableOf(2, 5)), 0, told(0, 0, 9, 0, 15))
+	isTold := func(root, cost, age int) {
+		t.Helper()
+		var taken [][]string
+		b, taken = takeAll(t, tick(t, b, 1))
+		if !slices.Equal(taken[1], []string{told(root, cost, 5, 1, age)}) {
+			t.Errorf("at %d %q is told", b.Now, taken[1])
+		}
+	}
+	isTold(0, 10, 17) // it is believed
+	isTold(0, 10, 18)
+	isTold(0, 10, 19)
+	b, _ = takeAll(t, tick(t, b, 1)) // it is too old to be told
+	isTold(5, 0, 0)                  // and forgotten, as nobody tells it anew
 }
 
 // chance tells numbers that are always the same ones.
